@@ -1,0 +1,1 @@
+"""Smalti: which stones of a mended mosaic are old."""
