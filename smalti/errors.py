@@ -57,7 +57,7 @@ class InvalidSigns(SmaltiError):
 
 
 class InvalidLimit(SmaltiError):
-    """The value cannot be a limit of open cells."""
+    """The value cannot be a limit of cases."""
 
     def __init__(self, value):
         self.value = value
@@ -186,7 +186,7 @@ class Impossible(SmaltiError):
 
 
 class TooManyCases(SmaltiError):
-    """There are more open cells than the limit."""
+    """There are more cases than the limit allows."""
 
     def __init__(self, cases):
         self.cases = cases
