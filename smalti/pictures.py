@@ -18,6 +18,18 @@ def is_stone_or_hole(sign):
     return sign == Picture.HOLE or is_stone(sign)
 
 
+def are_different_signs(signs, besides):
+    """Whether a text is one or more different signs, each a stone or the one besides."""
+    if signs == "" or len(set(signs)) < len(signs):
+        return False
+    return all([sign == besides or is_stone(sign) for sign in signs])
+
+
+def in_ascii_order(signs):
+    """The text with the same signs, in the order of ASCII."""
+    return "".join(sorted(signs))
+
+
 def _is_bad_row(row, width):
     """Whether a row cannot stand in a picture whose first row has that width."""
     if not 1 <= len(row) <= MOST or len(row) != width:

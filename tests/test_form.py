@@ -7,7 +7,7 @@ import unittest
 PACKAGE = pathlib.Path(__file__).resolve().parent.parent / "smalti"
 
 # The modules in the order of the interface: each imports only from those above it.
-ORDER = ["errors", "cells", "pictures"]
+ORDER = ["errors", "cells", "pictures", "rules", "books", "sketches", "sites"]
 
 LIBRARY = {
     "heapq": {"heappush", "heappop", "heapify", "heapreplace", "heappushpop"},
@@ -28,11 +28,66 @@ DEFINED = {
         "Picture": {"__init__", "read", "plain", "lines", "stones", "holes", "contains", "with_sign",
                     "__getitem__", "__len__", "__str__", "__eq__", "__sub__"},
     },
+    "rules": {
+        "Rule": {"__init__", "slack", "lays", "conditions", "__len__", "clashes", "fits", "written"},
+        "CountRule": {"__init__", "slack", "written"},
+        "SameRule": {"__init__", "lays", "conditions", "written"},
+    },
+    "books": {
+        "Book": {"__init__", "read", "text", "rule", "fitting", "__len__", "__add__"},
+    },
+    "sketches": {
+        "Sketch": {"__init__", "read", "of", "allow", "__getitem__", "__setitem__", "text", "fits", "ways",
+                   "copy", "__and__", "__eq__"},
+    },
+    "sites": {
+        "Mender": {"__init__", "__call__"},
+        "Site": {"__init__", "picture", "mended", "total", "fall", "mend", "mendings", "log", "undo", "run"},
+    },
+}
+
+# The functions of the interface that stand in no class.
+FUNCTIONS = {"rules": {"read_rule"}, "sketches": {"required_cells"}}
+
+# The parameters that the interface names; those behind the star are passed by keyword.
+PARAMETERS = {
+    "rules.read_rule": "line",
+    "rules.Rule.__init__": "self stone conditions",
+    "rules.Rule.lays": "self stone",
+    "rules.Rule.conditions": "self stone",
+    "rules.Rule.clashes": "self picture x y stone * loose",
+    "rules.Rule.fits": "self picture x y stone * loose",
+    "rules.CountRule.__init__": "self stone conditions need",
+    "rules.SameRule.__init__": "self places need",
+    "rules.SameRule.lays": "self stone",
+    "rules.SameRule.conditions": "self stone",
+    "books.Book.__init__": "self rules",
+    "books.Book.read": "cls text",
+    "books.Book.rule": "self number",
+    "books.Book.fitting": "self picture x y stone * loose",
+    "sketches.required_cells": "sketch picture",
+    "sketches.Sketch.read": "cls text",
+    "sketches.Sketch.of": "cls picture",
+    "sketches.Sketch.allow": "self x y signs",
+    "sketches.Sketch.fits": "self picture",
+    "sites.Mender.__init__": "self book number",
+    "sites.Mender.__call__": "self picture x y stone",
+    "sites.Site.__init__": "self book picture",
+    "sites.Site.fall": "self x y",
+    "sites.Site.mend": "self x y number stone",
+    "sites.Site.mendings": "self x y",
+    "sites.Site.run": "self deeds",
 }
 
 
 def trees():
     return {path.stem: ast.parse(path.read_text()) for path in sorted(PACKAGE.glob("*.py"))}
+
+
+def shown_parameters(arguments):
+    names = [argument.arg for argument in arguments.args]
+    by_keyword = [argument.arg for argument in arguments.kwonlyargs]
+    return " ".join(names + (["*"] if by_keyword else []) + by_keyword)
 
 
 class Form(unittest.TestCase):
@@ -86,6 +141,21 @@ class Form(unittest.TestCase):
             for own, methods in classes.items():
                 defined = {node.name for node in bodies[own] if isinstance(node, ast.FunctionDef)}
                 self.assertLessEqual(methods, defined, own)
+
+    def test_functions_stand_where_the_interface_lists_them(self):
+        found = trees()
+        for name, functions in FUNCTIONS.items():
+            defined = {node.name for node in found[name].body if isinstance(node, ast.FunctionDef)}
+            self.assertLessEqual(functions, defined, name)
+
+    def test_parameters_have_the_names_of_the_interface(self):
+        found = trees()
+        for path, expected in PARAMETERS.items():
+            module, *inner = path.split(".")
+            node = found[module]
+            for name in inner:
+                node = next(part for part in node.body if getattr(part, "name", None) == name)
+            self.assertEqual(shown_parameters(node.args), expected, path)
 
 
 if __name__ == "__main__":
