@@ -1,6 +1,7 @@
 """Rule books: numbered lists of rules."""
 
-from smalti.errors import InvalidBook, InvalidRule, NoRule, OutOfPicture
+from smalti.errors import InvalidBook, InvalidRule, NoRule
+from smalti.pictures import check_cell
 from smalti.rules import read_rule
 
 MOST_RULES = 20
@@ -44,8 +45,7 @@ class Book:
     def fitting(self, picture, x, y, stone, *, loose=None):
         """The ascending list of the numbers of the rules that fit."""
         # A book without rules would ask no rule whether the cell is in the picture.
-        if not picture.contains(x, y):
-            raise OutOfPicture(x, y)
+        check_cell(picture, x, y)
         answers = [rule.fits(picture, x, y, stone, loose=loose) for rule in self._rules]
         return [number for number, fits in enumerate(answers) if fits]
 

@@ -4,7 +4,7 @@ _GROUP = 10 ** 18
 _GROUP_DIGITS = 18
 
 
-def _decimal(number):
+def decimal(number):
     """The decimal text of an integer of any size."""
     # str() refuses a number of more than 4300 digits, so it gets small groups only.
     rest = abs(number)
@@ -65,4 +65,4 @@ class Region:
     def __str__(self):
         if not self._members:
             return "-"
-        return " ".join([f"{_decimal(x)},{_decimal(y)}" for x, y in self._members])
+        return " ".join([f"{decimal(x)},{decimal(y)}" for x, y in self._members])

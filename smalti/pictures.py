@@ -1,7 +1,7 @@
 """Pictures: small grids of stones and holes, and what their signs are."""
 
 from smalti.cells import Region
-from smalti.errors import InvalidPicture, InvalidSign, OutOfPicture, UnequalSize
+from smalti.errors import InvalidPicture, InvalidSign, NoStone, OutOfPicture, UnequalSize
 
 STONES = "abcdefghijklmnopqrstuvwxyz"
 MOST = 8
@@ -16,6 +16,12 @@ def is_stone(sign):
 def is_stone_or_hole(sign):
     """Whether a text can be a sign of a picture."""
     return sign == Picture.HOLE or is_stone(sign)
+
+
+def check_sign(sign):
+    """Raise InvalidSign if a text cannot be a sign of a picture."""
+    if not is_stone_or_hole(sign):
+        raise InvalidSign(sign)
 
 
 def are_different_signs(signs, besides):
@@ -69,8 +75,7 @@ class Picture:
     @classmethod
     def plain(cls, width, height, sign):
         """A picture with the same sign everywhere."""
-        if not is_stone_or_hole(sign):
-            raise InvalidSign(sign)
+        check_sign(sign)
         return cls([sign * width] * height)
 
     def lines(self):
@@ -95,10 +100,8 @@ class Picture:
 
     def with_sign(self, x, y, sign):
         """A new picture with another sign at one cell."""
-        if not self.contains(x, y):
-            raise OutOfPicture(x, y)
-        if not is_stone_or_hole(sign):
-            raise InvalidSign(sign)
+        check_cell(self, x, y)
+        check_sign(sign)
         rows = list(self._rows)
         rows[y] = rows[y][:x] + sign + rows[y][x + 1:]
         return Picture(rows)
@@ -126,3 +129,21 @@ class Picture:
 
     def __str__(self):
         return "\n".join(self._rows)
+
+
+def check_cell(picture, x, y):
+    """Raise OutOfPicture if the cell is not in the picture."""
+    if not picture.contains(x, y):
+        raise OutOfPicture(x, y)
+
+
+def check_stone(picture, x, y):
+    """Raise an error if there is no stone at the cell."""
+    check_cell(picture, x, y)
+    if picture[x, y] == Picture.HOLE:
+        raise NoStone(x, y)
+
+
+def stones_in(picture, region):
+    """The region of those cells of a region, or of None, that have a stone in the picture."""
+    return Region([]) if region is None else picture.stones() & region

@@ -1,7 +1,7 @@
 """Rules: when a stone may be laid into a hole, and how a rule is written."""
 
-from smalti.errors import InvalidRule, OutOfPicture, WrongStone
-from smalti.pictures import STONES, Picture, are_different_signs, in_ascii_order, is_stone
+from smalti.errors import InvalidRule, WrongStone
+from smalti.pictures import STONES, Picture, are_different_signs, check_cell, in_ascii_order, is_stone
 
 REACH = 3
 MOST_CONDITIONS = 8
@@ -79,15 +79,13 @@ class Rule:
 
     def clashes(self, picture, x, y, stone, *, loose=None):
         """The list of the positions of the clashing conditions in reading order."""
-        if not picture.contains(x, y):
-            raise OutOfPicture(x, y)
+        check_cell(picture, x, y)
         looks = [((x + dx, y + dy), signs) for dx, dy, signs in self.conditions(stone)]
         return [place for place, signs in looks if _clashes_at(picture, place, signs, loose)]
 
     def fits(self, picture, x, y, stone, *, loose=None):
         """Whether the rule may lay the stone at the cell."""
-        if not picture.contains(x, y):
-            raise OutOfPicture(x, y)
+        check_cell(picture, x, y)
         if not self.lays(stone):
             return False
         return len(self.clashes(picture, x, y, stone, loose=loose)) <= self.slack

@@ -1,8 +1,8 @@
 """Sites: mosaics in time, whose stones fall out and are mended."""
 
 from smalti.cells import Region
-from smalti.errors import BadDeed, NoHole, NoStone, NothingToUndo, OutOfPicture, RuleClash, SmaltiError
-from smalti.pictures import Picture
+from smalti.errors import BadDeed, NoHole, NothingToUndo, RuleClash, SmaltiError
+from smalti.pictures import Picture, check_cell, check_stone
 
 FALL = "fall"
 MEND = "mend"
@@ -18,15 +18,9 @@ def is_mending(deed):
     return isinstance(deed, tuple) and len(deed) == 5 and deed[0] == MEND
 
 
-def _check_cell(picture, x, y):
-    """Raise OutOfPicture if the cell is not in the picture."""
-    if not picture.contains(x, y):
-        raise OutOfPicture(x, y)
-
-
 def _check_hole(picture, x, y):
     """Raise an error if there is no hole at the cell."""
-    _check_cell(picture, x, y)
+    check_cell(picture, x, y)
     if picture[x, y] != Picture.HOLE:
         raise NoHole(x, y)
 
@@ -85,14 +79,12 @@ class Site:
 
     def mendings(self, x, y):
         """The number of mendings of one cell."""
-        _check_cell(self._picture, x, y)
+        check_cell(self._picture, x, y)
         return self._counts.get((x, y), 0)
 
     def fall(self, x, y):
         """Let the stone at the cell fall out."""
-        _check_cell(self._picture, x, y)
-        if self._picture[x, y] == Picture.HOLE:
-            raise NoStone(x, y)
+        check_stone(self._picture, x, y)
         self._note((FALL, x, y), self._picture.with_sign(x, y, Picture.HOLE))
 
     def mend(self, x, y, number, stone):

@@ -7,7 +7,7 @@ import unittest
 PACKAGE = pathlib.Path(__file__).resolve().parent.parent / "smalti"
 
 # The modules in the order of the interface: each imports only from those above it.
-ORDER = ["errors", "cells", "pictures", "rules", "books", "sketches", "sites"]
+ORDER = ["errors", "cells", "pictures", "rules", "books", "sketches", "sites", "peeling", "histories", "clashes"]
 
 LIBRARY = {
     "heapq": {"heappush", "heappop", "heapify", "heapreplace", "heappushpop"},
@@ -44,19 +44,32 @@ DEFINED = {
         "Mender": {"__init__", "__call__"},
         "Site": {"__init__", "picture", "mended", "total", "fall", "mend", "mendings", "log", "undo", "run"},
     },
+    "histories": {
+        "History": {"__init__", "read", "text", "last", "mended_cells", "mending_count"},
+    },
+    "clashes": {
+        "Clash": {"__init__"},
+    },
 }
 
 # The functions of the interface that stand in no class.
-FUNCTIONS = {"rules": {"read_rule"}, "sketches": {"required_cells"}}
+FUNCTIONS = {
+    "rules": {"read_rule"},
+    "sketches": {"required_cells"},
+    "peeling": {"loose_waves", "loosened", "wave_of", "opening_rule"},
+    "histories": {"check_history", "history_mending"},
+    "clashes": {"clash_of", "check_clash"},
+}
 
-# The parameters that the interface names; those behind the star are passed by keyword.
+# The parameters that the interface names, with their default values; those behind the star are
+# passed by keyword.
 PARAMETERS = {
     "rules.read_rule": "line",
     "rules.Rule.__init__": "self stone conditions",
     "rules.Rule.lays": "self stone",
     "rules.Rule.conditions": "self stone",
-    "rules.Rule.clashes": "self picture x y stone * loose",
-    "rules.Rule.fits": "self picture x y stone * loose",
+    "rules.Rule.clashes": "self picture x y stone * loose=None",
+    "rules.Rule.fits": "self picture x y stone * loose=None",
     "rules.CountRule.__init__": "self stone conditions need",
     "rules.SameRule.__init__": "self places need",
     "rules.SameRule.lays": "self stone",
@@ -64,7 +77,7 @@ PARAMETERS = {
     "books.Book.__init__": "self rules",
     "books.Book.read": "cls text",
     "books.Book.rule": "self number",
-    "books.Book.fitting": "self picture x y stone * loose",
+    "books.Book.fitting": "self picture x y stone * loose=None",
     "sketches.required_cells": "sketch picture",
     "sketches.Sketch.read": "cls text",
     "sketches.Sketch.of": "cls picture",
@@ -77,6 +90,21 @@ PARAMETERS = {
     "sites.Site.mend": "self x y number stone",
     "sites.Site.mendings": "self x y",
     "sites.Site.run": "self deeds",
+    "peeling.loose_waves": "book picture * held=None",
+    "peeling.loosened": "book picture * held=None",
+    "peeling.wave_of": "book picture x y * held=None",
+    "peeling.opening_rule": "book picture x y * held=None",
+    "histories.check_history": "book sketch picture history",
+    "histories.history_mending": "book sketch picture * held=None",
+    "histories.History.__init__": "self first deeds",
+    "histories.History.read": "cls text",
+    "histories.History.text": "self",
+    "histories.History.last": "self book",
+    "histories.History.mended_cells": "self",
+    "histories.History.mending_count": "self",
+    "clashes.clash_of": "book picture x y * held=None",
+    "clashes.check_clash": "book picture clash * held=None",
+    "clashes.Clash.__init__": "self region refusals",
 }
 
 
@@ -86,8 +114,15 @@ def trees():
 
 def shown_parameters(arguments):
     names = [argument.arg for argument in arguments.args]
-    by_keyword = [argument.arg for argument in arguments.kwonlyargs]
-    return " ".join(names + (["*"] if by_keyword else []) + by_keyword)
+    if arguments.vararg:
+        names.append("*" + arguments.vararg.arg)
+    elif arguments.kwonlyargs:
+        names.append("*")
+    for argument, default in zip(arguments.kwonlyargs, arguments.kw_defaults):
+        names.append(argument.arg + ("" if default is None else "=" + ast.unparse(default)))
+    if arguments.kwarg:
+        names.append("**" + arguments.kwarg.arg)
+    return " ".join(names)
 
 
 class Form(unittest.TestCase):

@@ -8,9 +8,8 @@ from smalti.errors import (BadDeed, NoHole, NoRule, NoStone, NothingToUndo, OutO
                            WrongStone)
 from smalti.pictures import Picture
 from smalti.sites import Mender, Site
-from tests.helper import HUGE, SmaltiTest
+from tests.helper import FAR, HUGE, SmaltiTest
 
-FAR = [(-1, 0), (0, -1), (3, 0), (0, 2), (-3, -2), (HUGE, 0), (0, -HUGE), (2 ** 64, 1)]
 NOT_STONES = ["", "#", ".", "A", "ab", " "]
 
 
