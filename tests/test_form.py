@@ -7,7 +7,8 @@ import unittest
 PACKAGE = pathlib.Path(__file__).resolve().parent.parent / "smalti"
 
 # The modules in the order of the interface: each imports only from those above it.
-ORDER = ["errors", "cells", "pictures", "rules", "books", "sketches", "sites", "peeling", "histories", "clashes"]
+ORDER = ["errors", "cells", "pictures", "rules", "books", "sketches", "sites", "peeling", "histories", "clashes",
+         "ordering", "counting", "inquiries", "chronicles"]
 
 LIBRARY = {
     "heapq": {"heappush", "heappop", "heapify", "heapreplace", "heappushpop"},
@@ -59,6 +60,8 @@ FUNCTIONS = {
     "peeling": {"loose_waves", "loosened", "wave_of", "opening_rule"},
     "histories": {"check_history", "history_mending"},
     "clashes": {"clash_of", "check_clash"},
+    "ordering": {"surely_after", "history_not_after"},
+    "counting": {"fewest", "fewest_cells", "bound_of", "check_bound"},
 }
 
 # The parameters that the interface names, with their default values; those behind the star are
@@ -105,6 +108,12 @@ PARAMETERS = {
     "clashes.clash_of": "book picture x y * held=None",
     "clashes.check_clash": "book picture clash * held=None",
     "clashes.Clash.__init__": "self region refusals",
+    "ordering.surely_after": "book picture x y * held=None",
+    "ordering.history_not_after": "book sketch picture cell other * held=None",
+    "counting.fewest": "book sketch picture * held=None marked=None limit=LIMIT",
+    "counting.fewest_cells": "book sketch picture * held=None marked=None limit=LIMIT",
+    "counting.bound_of": "book sketch picture * held=None marked=None limit=LIMIT",
+    "counting.check_bound": "book sketch picture number rows * held=None marked=None",
 }
 
 
