@@ -1,5 +1,6 @@
 """Plain answers to compare with: slow, straight from the words of the document."""
 
+import heapq
 import itertools
 import random
 
@@ -92,3 +93,79 @@ def random_cases(seed, count):
             if dice.random() < 0.4:
                 sketch[x, y] = "".join(dice.sample(letters + ".", dice.randint(1, 3)))
         yield book, sketch, picture, random_region(dice, picture), random_region(dice, picture)
+
+
+def small_cases(seed, count):
+    """Yield tuples (book, sketch, picture, letters) that are small enough for a World."""
+    dice = random.Random(seed)
+    for _ in range(count):
+        letters, width, height = dice.choice([("ab", 4, 1), ("ab", 2, 2), ("abc", 3, 1), ("abc", 1, 3), ("abcd", 2, 1)])
+        picture = Picture(["".join(dice.choice(letters * 3 + ".") for _ in range(width)) for _ in range(height)])
+        book = Book([random_rule(dice, letters) for _ in range(dice.randint(0, 5))])
+        sketch = Sketch(width, height)
+        for x, y in picture.every_cell():
+            sketch[x, y] = "".join(dice.sample(letters + ".", dice.randint(1, len(letters) + 1)))
+        yield book, sketch, picture, letters
+
+
+class World:
+    """All that deeds can lead to, found by doing them.
+
+    A state is a text of the signs in reading order with the set of the cells that were mended.
+    """
+
+    def __init__(self, book, sketch, picture, letters):
+        self.cells = picture.every_cell()
+        self.width = picture.width
+        self.book = book
+        self.letters = letters
+        self.signs = "".join(picture.lines())
+        self.starts = [("".join(signs), frozenset()) for signs in itertools.product(*[sketch[at] for at in self.cells])]
+        self.next_signs = {}
+        self.earlier = {state: [] for state in self.starts}
+        self.mendings = {}
+        self.walk()
+
+    def walk(self):
+        """Find every state, the states from which it comes, and its least number of mendings."""
+        queue = [(0, at, state) for at, state in enumerate(self.starts)]
+        tickets = itertools.count(len(queue))
+        while queue:
+            count, _, state = heapq.heappop(queue)
+            if state in self.mendings:
+                continue
+            self.mendings[state] = count
+            for signs, mended in self.steps(state[0]):
+                after = (signs, state[1] | mended)
+                self.earlier.setdefault(after, []).append(state)
+                heapq.heappush(queue, (count + len(mended), next(tickets), after))
+
+    def steps(self, signs):
+        """The texts that one deed leads to, each with the set of the cells that it mends."""
+        if signs not in self.next_signs:
+            picture = Picture([signs[at:at + self.width] for at in range(0, len(signs), self.width)])
+            self.next_signs[signs] = [(signs[:at] + stone + signs[at + 1:], mended)
+                                      for at, cell in enumerate(self.cells)
+                                      for stone, mended in self.deeds(picture, cell)]
+        return self.next_signs[signs]
+
+    def deeds(self, picture, cell):
+        if picture[cell] != ".":
+            return [(".", frozenset())]
+        return [(stone, frozenset([cell])) for stone in self.letters if self.book.fitting(picture, *cell, stone)]
+
+    def endings(self, held, marked):
+        """The last states of all fitting histories."""
+        return [(signs, mended) for signs, mended in self.mendings
+                if signs == self.signs and not mended & set(held) and mended >= set(marked)]
+
+    def beginnings(self, held, marked):
+        """The first pictures of all fitting histories, as texts."""
+        waiting = self.endings(held, marked)
+        found = set(waiting)
+        while waiting:
+            for state in self.earlier[waiting.pop()]:
+                if state not in found:
+                    found.add(state)
+                    waiting.append(state)
+        return [signs for signs, mended in self.starts if (signs, mended) in found]

@@ -51,6 +51,16 @@ DEFINED = {
     "clashes": {
         "Clash": {"__init__"},
     },
+    "inquiries": {
+        "Inquiry": {"__init__", "picture", "kept", "marked", "required", "missing", "possible", "limit", "keep", "mark",
+                    "release", "correct", "undo", "change_limit", "verdict", "verdicts", "cells_with", "select",
+                    "report", "history", "why_old", "why_new", "why_impossible", "surely_after", "beginnings",
+                    "beginnings_count", "fewest", "fewest_cells", "bound", "suppose"},
+    },
+    "chronicles": {
+        "Chronicle": {"__init__", "show", "drop", "change_book", "photograph", "stretch", "__len__", "dates",
+                      "histories", "fewest", "never_mended"},
+    },
 }
 
 # The functions of the interface that stand in no class.
@@ -114,6 +124,39 @@ PARAMETERS = {
     "counting.fewest_cells": "book sketch picture * held=None marked=None limit=LIMIT",
     "counting.bound_of": "book sketch picture * held=None marked=None limit=LIMIT",
     "counting.check_bound": "book sketch picture number rows * held=None marked=None",
+    "inquiries.Inquiry.__init__": "self book sketch picture",
+    "inquiries.Inquiry.keep": "self *cells",
+    "inquiries.Inquiry.mark": "self *cells",
+    "inquiries.Inquiry.release": "self *cells",
+    "inquiries.Inquiry.correct": "self x y sign",
+    "inquiries.Inquiry.undo": "self",
+    "inquiries.Inquiry.change_limit": "self value",
+    "inquiries.Inquiry.verdict": "self x y",
+    "inquiries.Inquiry.verdicts": "self",
+    "inquiries.Inquiry.cells_with": "self word",
+    "inquiries.Inquiry.select": "self **wanted",
+    "inquiries.Inquiry.report": "self",
+    "inquiries.Inquiry.history": "self * without=None",
+    "inquiries.Inquiry.why_old": "self x y",
+    "inquiries.Inquiry.why_new": "self x y",
+    "inquiries.Inquiry.why_impossible": "self",
+    "inquiries.Inquiry.surely_after": "self x y",
+    "inquiries.Inquiry.beginnings": "self x y",
+    "inquiries.Inquiry.beginnings_count": "self",
+    "inquiries.Inquiry.fewest": "self",
+    "inquiries.Inquiry.fewest_cells": "self",
+    "inquiries.Inquiry.bound": "self",
+    "inquiries.Inquiry.suppose": "self ask * keep=() mark=()",
+    "chronicles.Chronicle.__init__": "self book sketch",
+    "chronicles.Chronicle.show": "self picture",
+    "chronicles.Chronicle.drop": "self",
+    "chronicles.Chronicle.change_book": "self book",
+    "chronicles.Chronicle.photograph": "self number",
+    "chronicles.Chronicle.stretch": "self number",
+    "chronicles.Chronicle.dates": "self x y",
+    "chronicles.Chronicle.histories": "self",
+    "chronicles.Chronicle.fewest": "self",
+    "chronicles.Chronicle.never_mended": "self",
 }
 
 
