@@ -82,8 +82,7 @@ class Chronicle:
 
     def _last(self):
         """The last photograph."""
-        if not self._inquiries:
-            raise NoPhotograph(0)
+        # Without any, this asks for number 0, which raises the right error.
         return self.photograph(len(self._inquiries))
 
     def __len__(self):

@@ -3,8 +3,7 @@
 from smalti.cells import Region
 from smalti.clashes import clash_at
 from smalti.counting import LIMIT, Demand, bound_of, fewest, fewest_cells, needed_cells
-from smalti.errors import (InvalidLimit, NotNew, NothingToUndo, NotOld, Opposed, StillPossible, SurelyNew,
-                           UnknownOption)
+from smalti.errors import InvalidLimit, NotNew, NothingToUndo, Opposed, StillPossible, SurelyNew, UnknownOption
 from smalti.histories import check_possible, history_mending
 from smalti.ordering import cells_after
 from smalti.peeling import Peeling
@@ -188,8 +187,6 @@ class Inquiry:
     def why_old(self, x, y):
         """A clash that shows that the stone was never mended."""
         self._check_question(x, y)
-        if self._state.word_at((x, y)) != OLD:
-            raise NotOld(x, y)
         return clash_at(self._state.peeling, (x, y), self.kept)
 
     def why_new(self, x, y):

@@ -144,6 +144,7 @@ class Dropping(ChronicleTest):
         chronicle.change_book(ANY)
         chronicle.drop()
         self.assertEqual([chronicle.show(SECOND), chronicle.dates(0, 0)], [2, [0, 2]])
+        self.assertEqual(chronicle.stretch(2).verdict(0, 0), "either")
 
 
 class Photographs(ChronicleTest):
